@@ -1,0 +1,1 @@
+"""Shortspans: ranges of numbers written short."""
