@@ -33,8 +33,8 @@ DUNDERS |= {"__" + start + name + "__" for start in ("", "r", "i") for name in
 METHODS = set(
     "append clear copy count endswith extend find get index insert isalnum isalpha isdigit islower isspace isupper "
     "items join keys ljust lower lstrip partition pop remove replace reverse rfind rjust rpartition rsplit rstrip "
-    "setdefault split splitlines startswith strip update upper values zfill bit_length title capitalize swapcase casefold center "
-    "expandtabs removeprefix removesuffix rindex isascii isdecimal isnumeric istitle isidentifier isprintable sort add "
+    "setdefault split splitlines startswith strip update upper values zfill bit_length title capitalize swapcase "
+    "casefold center expandtabs removeprefix removesuffix rindex isascii isdecimal isnumeric istitle isidentifier isprintable sort add "
     "discard __init__".split())
 NEVER = set("register mro elements open input law version_info with_traceback add_note".split())
 NOT_NAMES = NEVER | set(

@@ -154,11 +154,10 @@ class Asked(unittest.TestCase):
 
     def test_equal(self):
         style = Style(10, *RULES)
-        for other in (style, Style(10, *RULES), Style.of(10, list(RULES)), SHORT + Style(10, LAST).put(0, LAST)):
-            same = other.rules == RULES
-            self.assertIs(style == other, same)
-            self.assertIs(other == style, same)
-            self.assertIs(style != other, not same)
+        for other in (style, Style(10, *RULES), Style.of(10, list(RULES)), ENDS + (SHORT + Style(10, LAST))):
+            self.assertIs(style == other, True)
+            self.assertIs(other == style, True)
+            self.assertIs(style != other, False)
         for other in (Style(9, *RULES), Style(10, *RULES[1:]), Style(10, SHORT, ENDS, LAST),
                       Style(10, ENDS, SHORT, ALL), Style(10, *RULES, LAST)):
             self.assertIs(style == other, False)
