@@ -43,6 +43,27 @@ def need_range(first, second):
         raise BadRange((first, second))
 
 
+def raised(base, exponent):
+    """A power of a base."""
+    power = 1
+    for step in range(exponent):
+        power = power * base
+    return power
+
+
+def behind(number, remainder, step):
+    """The least integer that is greater than a number and leaves a remainder when divided by a step."""
+    return number + 1 + (remainder - number - 1) % step
+
+
+def worth(base, figures):
+    """The number that figures write; they may begin with zeros, or be zeros alone."""
+    number = 0
+    for figure in figures:
+        number = number * base + int(figure)
+    return number
+
+
 def digits(base, number):
     """The digits of a number, a text."""
     need_base(base)
@@ -60,10 +81,7 @@ def number_of(base, text):
     need_base(base)
     if not is_figures(base, text, MOST_DIGITS) or text[0] == "0":
         raise BadDigits(text)
-    number = 0
-    for figure in text:
-        number = number * base + int(figure)
-    return number
+    return worth(base, text)
 
 
 def length(base, number):

@@ -118,6 +118,12 @@ def many_kept(keep, facts):
     return min(keep[1], second_length)
 
 
+def written(rules, facts):
+    """The number of the rule that writes a range with these facts, and how many digits it keeps."""
+    number = first_applying(rules, facts)
+    return number, many_kept(rules[number][1], facts)
+
+
 class Style:
     """A base and 1 to 8 rules, the last one without conditions; a style never changes."""
 
@@ -147,13 +153,11 @@ class Style:
 
     def rule_of(self, first, second):
         """The number of the rule that writes a range."""
-        return first_applying(self.stored_rules, facts_of(self.stored_base, first, second))
+        return written(self.stored_rules, facts_of(self.stored_base, first, second))[0]
 
     def kept(self, first, second):
         """How many digits of second are kept."""
-        facts = facts_of(self.stored_base, first, second)
-        number = first_applying(self.stored_rules, facts)
-        return many_kept(self.stored_rules[number][1], facts)
+        return written(self.stored_rules, facts_of(self.stored_base, first, second))[1]
 
     def tail(self, first, second):
         """The text of the digits of second that are kept."""

@@ -1,5 +1,6 @@
 """What several test files need: values of every kind, and the check that a call is refused."""
 
+from shortspans.errors import BadRange
 from shortspans.styles import Style
 
 
@@ -24,7 +25,17 @@ NO_INTEGERS = (
 )
 NO_NUMBERS = NO_INTEGERS + (0, -1, -2, -(10 ** 1000))
 NO_BASES = NO_NUMBERS + (1, 11, 12, 16, 10 ** 1000)
+NO_READERS = NO_INTEGERS + (
+    0, 1, -1, "Replace", "NEXT", "replace ", " next", "next\n", "rep", "nextnext", "replace,next", b"next", ("next",),
+    ["replace"], {"next": "next"}, ("replace", "next"),
+)
 BASES = (2, 3, 4, 5, 6, 7, 8, 9, 10)
+GREAT = 10 ** 999
+NO_RANGES = (
+    [(1, 1), (2, 1), (5, 4), (GREAT, GREAT), (GREAT, 5), (True, 2), (1, True), (0, 1), (-1, 1), (-2, -1), ((1, 2), None)]
+    + [(value, 5) for value in NO_NUMBERS] + [(5, value) for value in NO_NUMBERS]
+    + [(value, value) for value in NO_NUMBERS] + [("1", "2"), ([1], [2]), (Thing(), "2"), (nested(50), nested(50))]
+)
 
 
 def refused(case, error, field, worth, call, *args, **named):
@@ -35,6 +46,16 @@ def refused(case, error, field, worth, call, *args, **named):
     told = getattr(caught.exception, field)
     case.assertEqual(told, worth)
     case.assertEqual(told.__class__, worth.__class__)
+
+
+def refused_range(case, pair, call, *args):
+    """The call raises BadRange with just this pair, a plain one."""
+    with case.assertRaises(BadRange) as caught:
+        call(*args)
+    told = caught.exception.value
+    case.assertIs(told.__class__, tuple)
+    case.assertEqual(told, pair)
+    case.assertEqual([each.__class__ for each in told], [each.__class__ for each in pair])
 
 
 def told_plainly(value):

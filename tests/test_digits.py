@@ -3,8 +3,8 @@
 import unittest
 
 from shortspans.digits import changed, digits, length, near, number_of
-from shortspans.errors import BadBase, BadDigits, BadNumber, BadRange
-from tests.helper import BASES, NO_BASES, NO_NUMBERS, Thing, nested, refused
+from shortspans.errors import BadBase, BadDigits, BadNumber
+from tests.helper import BASES, NO_BASES, NO_NUMBERS, NO_RANGES, nested, refused, refused_range
 
 GREAT = (10 ** 99, 7 ** 300 + 12345, 10 ** 999, 10 ** 1000 - 1, 123456789 * 10 ** 900 + 1)
 
@@ -158,17 +158,9 @@ class Ranges(unittest.TestCase):
                 refused(self, BadBase, "value", base, near, base, *pair)
 
     def test_refused_ranges(self):
-        pairs = [(1, 1), (2, 1), (10 ** 999, 10 ** 999), (10 ** 999, 1), (5, 4), (0, 1), (-2, -1), (True, 2), (1, True)]
-        pairs += [(value, 5) for value in NO_NUMBERS] + [(5, value) for value in NO_NUMBERS]
-        pairs += [(value, value) for value in NO_NUMBERS] + [((1, 2), None), (Thing(), "2")]
-        for first, second in pairs:
+        for pair in NO_RANGES:
             for call in (changed, near):
-                with self.assertRaises(BadRange) as caught:
-                    call(10, first, second)
-                told = caught.exception.value
-                self.assertIs(told.__class__, tuple)
-                self.assertEqual(told, (first, second))
-                self.assertEqual([item.__class__ for item in told], [first.__class__, second.__class__])
+                refused_range(self, pair, call, 10, *pair)
 
 
 class Session(unittest.TestCase):

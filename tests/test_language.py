@@ -13,6 +13,9 @@ DEFINED = {
                "OtherBase TooMany Missing NothingLeft"),
     "digits": "digits number_of length changed near",
     "styles": "MOST_RULES MOST_CONDITIONS MOST_SIZE is_rule Style",
+    "readers": "READERS completed fewest is_right",
+    "deciding": "limit first_range misread wasted misread_by parting longer_at never_longer needless lean mended",
+    "stretches": "stretches total",
 }
 METHODS_DEFINED = {
     ("styles", "Style"): ("__init__ of base rules rule_of kept tail __call__ __len__ __getitem__ __contains__ __eq__ "

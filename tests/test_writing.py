@@ -2,9 +2,9 @@
 
 import unittest
 
-from shortspans.errors import BadRange
 from shortspans.styles import Style
-from tests.helper import BASES, NO_NUMBERS, nested
+from tests.helper import BASES, GREAT, NO_RANGES, refused_range
+from tests.search import expected, text_of
 
 ALL = ((), ("all",))
 PAGES = Style(10, ((("ends", "00"),), ("all",)), ((("length", 1, 2),), ("all",)), ((), ("changed", 2)))
@@ -14,50 +14,6 @@ MIXED = (
     ((("changed", 3, None), ("ends", "1")), ("all",)), ((("near", 1),), ("changed", 1)), ((), ("last", 4)),
 )
 LONG = (((("near", 3), ("ends", "1")), ("changed", 4)), ((("changed", 6, None),), ("all",)), ALL)
-GREAT = 10 ** 999
-
-
-def text_of(base, number):
-    figures = ""
-    while number:
-        number, figure = divmod(number, base)
-        figures = str(figure) + figures
-    return figures
-
-
-def features(base, first, second):
-    """Both texts, changed and near, as the document words them."""
-    one, two = text_of(base, first), text_of(base, second)
-    change = len(two)
-    if len(one) == len(two):
-        while one[len(two) - change] == two[len(two) - change]:
-            change -= 1
-    gap = 0
-    while second - first > base ** gap:
-        gap += 1
-    return one, two, change, gap
-
-
-def holds(condition, one, change, gap):
-    if condition[0] == "ends":
-        return len(one) >= len(condition[1]) and one[len(one) - len(condition[1]):] == condition[1]
-    if condition[0] == "near":
-        return gap <= condition[1]
-    size = {"length": len(one), "changed": change}[condition[0]]
-    return size >= condition[1] and (condition[2] is None or size <= condition[2])
-
-
-def expected(style, first, second):
-    """(rule, kept, tail, form) of a range, from the texts of its numbers."""
-    one, two, change, gap = features(style.base, first, second)
-    applying = [at for at, rule in enumerate(style.rules) if all(holds(each, one, change, gap) for each in rule[0])]
-    keep = style.rules[applying[0]][1]
-    if keep[0] == "all":
-        kept = len(two)
-    else:
-        kept = min({"changed": max(change, keep[1]), "last": keep[1]}[keep[0]], len(two))
-    tail = two[len(two) - kept:]
-    return applying[0], kept, tail, one + "-" + tail
 
 
 class Writing(unittest.TestCase):
@@ -162,18 +118,10 @@ class Writing(unittest.TestCase):
 
 class Refused(unittest.TestCase):
     def test_no_ranges(self):
-        pairs = [(1, 1), (2, 1), (GREAT, GREAT), (GREAT, 5), (True, 2), (1, True), (0, 1), (-1, 1), ((1, 2), None)]
-        pairs += [(value, 5) for value in NO_NUMBERS] + [(5, value) for value in NO_NUMBERS]
-        pairs += [(value, value) for value in NO_NUMBERS] + [("1", "2"), ([1], [2]), (nested(50), nested(50))]
         for style in (PAGES, YEARS):
             for call in (style.rule_of, style.kept, style.tail, style):
-                for first, second in pairs:
-                    with self.assertRaises(BadRange) as caught:
-                        call(first, second)
-                    told = caught.exception.value
-                    self.assertIs(told.__class__, tuple)
-                    self.assertEqual(told, (first, second))
-                    self.assertEqual([each.__class__ for each in told], [first.__class__, second.__class__])
+                for pair in NO_RANGES:
+                    refused_range(self, pair, call, *pair)
 
 
 class Session(unittest.TestCase):
