@@ -46,7 +46,7 @@ def bounds(base, facts, lowest):
     first_length, second_length, change, gap, ending = facts
     if first_length < second_length:
         return raised(base, first_length), raised(base, second_length - 1), raised(base, second_length)
-    # Second has reached a multiple of this power. A range around a later one, moved down to this one, ends alike.
+    # A multiple of this power parts the two numbers. No range around a later one is less: moved down, it ends alike.
     cut = behind(lowest, 0, raised(base, change - 1))
     return cut, cut, behind(lowest, 0, raised(base, change))
 

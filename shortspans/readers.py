@@ -19,9 +19,8 @@ def replaced(base, first, tail):
     power = raised(base, len(tail))
     if first < power and tail[0] == "0":
         return None
-    number = worth(base, tail)
-    if first >= power:
-        number = first - first % power + number
+    # Of a first number with no more digits than the tail nothing is left ahead of it.
+    number = first - first % power + worth(base, tail)
     return number if number > first else None
 
 

@@ -10,8 +10,8 @@ def lasts_of(base, first, most):
     found = [most]
     power = 1
     while power <= most:
-        # Behind these, in this order, the length of second, changed and near are greater.
-        found.extend([power - 1, behind(first, 0, power) - 1, first + power])
+        # Behind the one changed is greater, or the length of second; behind the other one near is.
+        found.extend([behind(first, 0, power) - 1, first + power])
         power = power * base
     return sorted(set([last for last in found if first < last <= most]))
 

@@ -8,6 +8,13 @@ class Thing:
     """An object of a kind that the package does not know."""
 
 
+class Agreeing:
+    """An object that says of everything that it equals it."""
+
+    def __eq__(self, other):
+        return True
+
+
 def nested(depth):
     """A list, a tuple and a dict within one another, so many in all."""
     value = 1

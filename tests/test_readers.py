@@ -7,8 +7,8 @@ from shortspans import readers
 from shortspans.errors import BadBase, BadDigits, BadNumber, BadReader
 from shortspans.readers import completed, fewest, is_right
 from shortspans.styles import Style
-from tests.helper import (BASES, GREAT, NO_BASES, NO_INTEGERS, NO_NUMBERS, NO_RANGES, NO_READERS, nested, refused,
-                          refused_range)
+from tests.helper import (BASES, GREAT, NO_BASES, NO_INTEGERS, NO_NUMBERS, NO_RANGES, NO_READERS, Agreeing, nested,
+                          refused, refused_range)
 from tests.search import READERS, drawn_style, gets_right, seen_ranges, text_of, writes
 
 PLAIN = Style(10, ((), ("changed", 1)))
@@ -115,6 +115,13 @@ class Completed(unittest.TestCase):
             self.check("next", base, base ** 999, "1" + "0" * 999, base ** 1000 + base ** 999)
             self.check("replace", base, base ** 1200, "0" * 999 + "1", base ** 1200 + 1)
             self.check("next", base, base ** 1200, "0" * 1000, base ** 1200 + base ** 1000)
+
+    def test_refused_what_claims_to_equal_a_reader(self):
+        for call, rest in ((completed, (10, 5, "7")), (fewest, (10, 5, 6))):
+            with self.assertRaises(BadReader):
+                call(Agreeing(), *rest)
+        with self.assertRaises(BadReader):
+            is_right(PLAIN, Agreeing(), 5, 6)
 
     def test_refused_in_order(self):
         for reader in NO_READERS:

@@ -4,7 +4,7 @@ import unittest
 
 from shortspans.errors import BadBase
 from shortspans.styles import is_rule
-from tests.helper import BASES, NO_BASES, NO_INTEGERS, Thing, nested, refused
+from tests.helper import BASES, NO_BASES, NO_INTEGERS, Agreeing, Thing, nested, refused
 
 SIZES = (1, 2, 3, 4, 5, 6)
 NO_SIZES = NO_INTEGERS + (0, 7, -1, 10, 10 ** 1000)
@@ -12,13 +12,6 @@ NO_SIZES = NO_INTEGERS + (0, 7, -1, 10, 10 ** 1000)
 
 class Pair(tuple):
     """A tuple of a caller's own."""
-
-
-class Agreeing:
-    """An object that says of everything that it equals it."""
-
-    def __eq__(self, other):
-        return True
 
 
 class Rules(unittest.TestCase):

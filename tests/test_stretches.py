@@ -65,7 +65,7 @@ class Small(unittest.TestCase):
                 for first in {least, beyond - 1, beyond // 2, draw.randrange(least, beyond)}:
                     if first > 0:
                         for style in styles:
-                            self.check(style, first, first + 220)
+                            self.check(style, first, first + 350)
 
     def test_every_most(self):
         for base, firsts in ((2, (1, 6, 15)), (10, (7, 95, 991, 9999))):
@@ -169,8 +169,13 @@ class Session(unittest.TestCase):
     def test_example(self):
         told = stretches(PAGES, 1195, 2100), total(PAGES, 1195, 2100)
         self.assertEqual(told, (((1199, 2, 2), (1999, 2, 3), (2100, 2, 4)), 2812))
-        self.assertEqual(PAGES.rules, (((("ends", "00"),), ("all",)), ((("length", 1, 2),), ("all",)),
-                                       ((), ("changed", 2))))
+
+    def test_the_style_stays(self):
+        style = Style(3, *MIXED)
+        for call in (stretches, total):
+            self.assertEqual(call(style, 20, 300), call(Style(3, *MIXED), 20, 300))
+            self.assertEqual(call(style, 20, 300), call(style, 20, 300))
+        self.assertEqual((style.base, style.rules), (3, MIXED))
 
 
 if __name__ == "__main__":
