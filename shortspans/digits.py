@@ -97,7 +97,7 @@ def changed(base, first, second):
     many = 0
     while first != second:
         first, second = first // base, second // base
-        many += 1
+        many = many + 1
     return many
 
 
@@ -109,5 +109,5 @@ def near(base, first, second):
     power = 1
     while power < second - first:
         power = power * base
-        exponent += 1
+        exponent = exponent + 1
     return exponent

@@ -1,7 +1,10 @@
 """What several test files need: values of every kind, and the check that a call is refused."""
 
 from shortspans.errors import BadRange
+from shortspans.index import Index
 from shortspans.styles import Style
+
+SHORT = Style(10, ((), ("changed", 1)))
 
 
 class Thing:
@@ -36,6 +39,14 @@ NO_READERS = NO_INTEGERS + (
     0, 1, -1, "Replace", "NEXT", "replace ", " next", "next\n", "rep", "nextnext", "replace,next", b"next", ("next",),
     ["replace"], {"next": "next"}, ("replace", "next"),
 )
+NO_MANNERS = NO_INTEGERS + (
+    0, 1, -1, "Full", "RUNNING", "full ", " running", "full\n", "run", "fullfull", "full,running", b"full", ("full",),
+    ["full"], {"full": "full"}, ("full", "running"),
+)
+NO_TEXTS = tuple([value for value in NO_INTEGERS if not isinstance(value, str)]) + (
+    0, 1, 10, -5, 10 ** 999, ("1",), ["1"], {"1": "2"}, b"1, 2", b"base 10\nall", ("base 10", "all"),
+    ["base 10", "all"],
+)
 BASES = (2, 3, 4, 5, 6, 7, 8, 9, 10)
 GREAT = 10 ** 999
 NO_RANGES = (
@@ -63,6 +74,14 @@ def refused_range(case, pair, call, *args):
     case.assertIs(told.__class__, tuple)
     case.assertEqual(told, pair)
     case.assertEqual([each.__class__ for each in told], [each.__class__ for each in pair])
+
+
+def index_of(entries, style=SHORT, manner="full"):
+    """An index with these entries, put in one after another."""
+    index = Index(style, manner=manner)
+    for name in entries:
+        index[name] = entries[name]
+    return index
 
 
 def told_plainly(value):

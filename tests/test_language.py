@@ -16,10 +16,15 @@ DEFINED = {
     "readers": "READERS completed fewest is_right",
     "deciding": "limit first_range misread wasted misread_by parting longer_at never_longer needless lean mended",
     "stretches": "stretches total",
+    "entries": "MANNERS need_entry entry_text read_entry",
+    "index": "Index tried restyled",
+    "texts": "style_text read_style",
 }
 METHODS_DEFINED = {
     ("styles", "Style"): ("__init__ of base rules rule_of kept tail __call__ __len__ __getitem__ __contains__ __eq__ "
                           "__radd__ without put"),
+    ("index", "Index"): ("__init__ style manner __setitem__ __getitem__ forget __contains__ __len__ names note strike "
+                         "__iadd__ text cost undo __eq__ trial"),
 }
 OWN_ERRORS = set(DEFINED["errors"].split())
 ERRORS = set("Exception ValueError TypeError KeyError IndexError LookupError ZeroDivisionError ArithmeticError "
@@ -37,7 +42,8 @@ METHODS = set(
     "append clear copy count endswith extend find get index insert isalnum isalpha isdigit islower isspace isupper "
     "items join keys ljust lower lstrip partition pop remove replace reverse rfind rjust rpartition rsplit rstrip "
     "setdefault split splitlines startswith strip update upper values zfill bit_length title capitalize swapcase "
-    "casefold center expandtabs removeprefix removesuffix rindex isascii isdecimal isnumeric istitle isidentifier isprintable "
+    "casefold center expandtabs removeprefix removesuffix rindex isascii isdecimal isnumeric istitle isidentifier "
+    "isprintable "
     "sort add discard __init__".split())
 NEVER = set("register mro elements open input law version_info with_traceback add_note".split())
 NOT_NAMES = NEVER | set(
@@ -163,9 +169,8 @@ def sign_faults(node):
         if isinstance(node.op, ast.Pow) and not isinstance(exponent, ast.Constant):
             yield node.lineno, "L27"
     if isinstance(node, ast.AugAssign) and isinstance(node.op, ast.Add):
-        # In the functions that an operator calls nothing else is allowed, as the package has __radd__.
-        if not isinstance(node.value, ast.Constant) or not isinstance(node.value.value, int):
-            yield node.lineno, "L5"
+        # In the functions that an operator calls none is allowed, as the package has __iadd__.
+        yield node.lineno, "L5"
     if isinstance(node, ast.Constant):
         if isinstance(node.value, (float, complex)) or node.value is Ellipsis:
             yield node.lineno, "L7"
@@ -202,11 +207,39 @@ def function_faults(node, methods):
             yield node.lineno, "L5"
 
 
+def is_setter(part):
+    """Whether a method sets a property, as it has to be written: below the one that reads it."""
+    marks = part.decorator_list
+    return (len(marks) == 1 and isinstance(marks[0], ast.Attribute) and marks[0].attr == "setter"
+            and isinstance(marks[0].value, ast.Name) and marks[0].value.id == part.name and len(part.args.args) == 2)
+
+
+def plain_exit_row(row):
+    """Whether a statement assigns an attribute or a name to an attribute; the package needs nothing else in an exit."""
+    return (isinstance(row, ast.Assign) and len(row.targets) == 1 and isinstance(row.targets[0], ast.Attribute)
+            and isinstance(row.value, (ast.Attribute, ast.Name)))
+
+
+def exit_faults(part):
+    if [arg.arg for arg in part.args.args] != ["self", "kind", "value", "trace"]:
+        yield part.lineno, "L6"
+    if not all(plain_exit_row(row) for row in part.body):
+        yield part.lineno, "L6"
+    if {node.id for node in ast.walk(part) if isinstance(node, ast.Name)} & {"kind", "value", "trace"}:
+        yield part.lineno, "L6"
+
+
 def class_faults(node):
     if isinstance(node, ast.ClassDef):
-        names = [part.name for part in node.body if isinstance(part, ast.FunctionDef)]
+        parts = [part for part in node.body if isinstance(part, ast.FunctionDef)]
+        names = [part.name for part in parts if not is_setter(part)]
         if len(names) != len(set(names)):
             yield node.lineno, "L18"
+        for part in parts:
+            if is_setter(part) and part.name not in names:
+                yield part.lineno, "L5"
+            if part.name == "__exit__":
+                yield from exit_faults(part)
         if "__getitem__" in names and "__iter__" not in names:
             yield node.lineno, "L5"
         if node.decorator_list:
@@ -238,6 +271,11 @@ def package_trees():
 def assigned_attributes(trees):
     return {node.attr for tree in trees.values() for node in ast.walk(tree)
             if isinstance(node, ast.Attribute) and isinstance(node.ctx, ast.Store)}
+
+
+def set_properties(trees):
+    return {part.name for tree in trees.values() for part in ast.walk(tree)
+            if isinstance(part, ast.FunctionDef) and is_setter(part)}
 
 
 def own_methods(trees):
@@ -300,12 +338,12 @@ class Package(unittest.TestCase):
 
     def test_methods_and_attributes(self):
         assigned, methods = assigned_attributes(self.trees), own_methods(self.trees)
-        self.assertEqual(assigned & methods, set())
+        self.assertEqual(assigned & methods, set_properties(self.trees))
         for tree in self.trees.values():
             called = {node.func for node in ast.walk(tree) if isinstance(node, ast.Call)}
             for node in ast.walk(tree):
                 if isinstance(node, ast.Attribute):
-                    known = METHODS | methods if node in called else assigned | methods
+                    known = METHODS | methods if node in called else assigned | methods | {"setter"}
                     self.assertIn(node.attr, known, node.lineno)
 
 
@@ -325,7 +363,12 @@ class Checks(unittest.TestCase):
             ("from shortspans.digits import near\ndef f(near):\n    pass", "L15"), ("def f(_x):\n    pass", "L12"),
             ("def f(x):\n    return x.__dict__", "L17"), ("def f(x):\n    return x is 5", "L20"),
             ("def f(x):\n    return 2 ** x", "L27"), ("def f(x):\n    return x / 2", "L7"),
-            ("def f(x):\n    x += x", "L5"),
+            ("def f(x):\n    x += x", "L5"), ("def f(x):\n    x += 1", "L5"),
+            ("class A:\n    def a(self):\n        pass\n    def a(self):\n        pass", "L18"),
+            ("class A:\n    @a.setter\n    def a(self, x):\n        self.b = x", "L5"),
+            ("class A:\n    def __exit__(self, kind, value, trace):\n        print(self)", "L6"),
+            ("class A:\n    def __exit__(self, kind, value, trace):\n        self.a = value", "L6"),
+            ("class A:\n    def __exit__(self, kind):\n        self.a = self.b", "L6"),
             ("def f(x):\n    raise x", "L19"),
             ("def f():\n    try:\n        f()\n    except TypeError:\n        pass", "L19"),
             ("def f(x):\n    return sum(a for a in x)", "L5"), ("def f(x):\n    return list(reversed(x))", "L5"),
